@@ -1,0 +1,1 @@
+"""Seer: what boxes can hold, told ahead of any run."""

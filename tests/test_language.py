@@ -1,0 +1,135 @@
+"""Holds the package's files against those rules of LANGUAGE.md that can be seen plainly."""
+
+import ast
+import builtins
+import os
+import re
+import unittest
+
+FOLDER = os.path.join(os.path.dirname(os.path.dirname(os.path.abspath(__file__))), "seer")
+
+NODES = {
+    "Module", "FunctionDef", "ClassDef", "arguments", "arg", "Lambda", "ImportFrom", "alias",
+    "Assign", "AugAssign", "If", "While", "For", "Return", "Break", "Continue", "Pass", "Raise",
+    "Try", "ExceptHandler", "Expr", "Constant", "Name", "Load", "Store", "List", "Tuple", "Dict",
+    "Set", "BinOp", "UnaryOp", "BoolOp", "Compare", "IfExp", "Call", "keyword", "Attribute",
+    "Subscript", "Slice", "ListComp", "comprehension", "JoinedStr", "FormattedValue",
+    "Add", "Sub", "Mult", "FloorDiv", "Mod", "Pow", "BitAnd", "BitOr", "BitXor", "LShift",
+    "RShift", "USub", "UAdd", "Invert", "Not", "And", "Or", "Eq", "NotEq", "Lt", "LtE", "Gt",
+    "GtE", "Is", "IsNot", "In", "NotIn",
+}
+OWN_NAMES = set(
+    "len range enumerate zip min max sum abs sorted reversed int str bool list tuple dict set"
+    " frozenset isinstance ord repr any all divmod Exception ValueError TypeError KeyError"
+    " IndexError LookupError ZeroDivisionError ArithmeticError OverflowError RuntimeError"
+    " NotImplementedError AttributeError StopIteration".split()
+)
+WORDS = re.compile(
+    r"\b(type|typing|typing_extensions|enum|Enum|IntEnum|StrEnum|Flag|IntFlag|Generic|Protocol|ABC"
+    r"|ABCMeta|namedtuple|NamedTuple|TypedDict|TYPE_CHECKING|abstractmethod)\b"
+    r"|dataclass|overload|contextmanager"
+)
+
+
+def texts():
+    found = {}
+    for name in sorted(os.listdir(FOLDER)):
+        if name != "__pycache__":
+            with open(os.path.join(FOLDER, name), encoding="utf-8", newline="") as file:
+                found[name] = file.read()
+    return found
+
+
+def names_made(tree):
+    made = [node.name for node in ast.walk(tree) if isinstance(node, (ast.FunctionDef, ast.ClassDef))]
+    made += [node.arg for node in ast.walk(tree) if isinstance(node, ast.arg)]
+    return made + [node.id for node in ast.walk(tree)
+                   if isinstance(node, ast.Name) and isinstance(node.ctx, ast.Store)]
+
+
+class Language(unittest.TestCase):
+    def setUp(self):
+        self.texts = texts()
+        self.trees = {name: ast.parse(text) for name, text in self.texts.items()}
+
+    def each_node(self):
+        for name, tree in self.trees.items():
+            for node in ast.walk(tree):
+                yield (name, getattr(node, "lineno", 0)), node
+
+    def test_files_bear_plain_names(self):
+        self.assertIn("__init__.py", self.texts)
+        for name in self.texts:
+            self.assertRegex(name, r"^[a-z0-9_]+\.py$")
+
+    def test_signs_lines_and_sizes(self):
+        for name, text in self.texts.items():
+            self.assertRegex(text, r"\A[ -~\n]*\Z", name)
+            lines = text.split("\n")
+            self.assertLessEqual(len(lines), 401, name)
+            self.assertLessEqual(max(len(line) for line in lines), 120, name)
+
+    def test_words_that_stand_nowhere(self):
+        for name, text in self.texts.items():
+            self.assertIsNone(WORDS.search(text), name)
+
+    def test_functions_are_short_and_plain(self):
+        for where, node in self.each_node():
+            if isinstance(node, ast.FunctionDef):
+                self.assertLessEqual(node.end_lineno - node.lineno + 1, 40, where)
+                self.assertEqual(node.decorator_list, [], where)
+            if isinstance(node, ast.arguments):
+                self.assertIsNone(node.vararg or node.kwarg, where)
+                self.assertEqual(node.kwonlyargs + node.posonlyargs, [], where)
+
+    def test_forms(self):
+        for where, node in self.each_node():
+            self.assertIn(node.__class__.__name__, NODES, where)
+            if isinstance(node, ast.Constant):
+                self.assertNotIsInstance(node.value, (float, complex, bytes), where)
+            if isinstance(node, ast.Assign):
+                self.assertEqual(len(node.targets), 1, where)
+            if isinstance(node, (ast.For, ast.While)):
+                self.assertEqual(node.orelse, [], where)
+            if isinstance(node, ast.Try):
+                self.assertEqual(node.finalbody, [], where)
+
+    def test_tops(self):
+        plain = (ast.ImportFrom, ast.FunctionDef, ast.ClassDef, ast.Assign)
+        for name, tree in self.trees.items():
+            self.assertIsNotNone(ast.get_docstring(tree), name)
+            for node in tree.body[1:]:
+                self.assertIsInstance(node, plain, (name, node.lineno))
+
+    def test_imports_are_from_the_file_that_makes_the_name(self):
+        for name, tree in self.trees.items():
+            for node in ast.walk(tree):
+                if isinstance(node, ast.ImportFrom):
+                    self.assertIn(node, tree.body, (name, node.lineno))
+                    self.assertRegex(node.module, r"^seer\.[a-z0-9_]+$", name)
+                    made = names_made(self.trees[node.module[5:] + ".py"])
+                    for drawn in node.names:
+                        self.assertIn(drawn.name, made, (name, node.lineno))
+
+    def test_no_two_files_draw_from_one_another(self):
+        drawn = {}
+        for name, tree in self.trees.items():
+            drawn[name] = {node.module[5:] + ".py" for node in tree.body if isinstance(node, ast.ImportFrom)}
+        while drawn:
+            free = [name for name in drawn if not drawn[name] & set(drawn)]
+            self.assertNotEqual(free, [], sorted(drawn))
+            drawn = {name: drawn[name] for name in drawn if name not in free}
+
+    def test_names(self):
+        for name, tree in self.trees.items():
+            for made in names_made(tree):
+                self.assertNotIn(made, dir(builtins), name)
+                if not (made.startswith("__") and made.endswith("__")):
+                    self.assertRegex(made, r"^[A-Za-z]", name)
+        for where, node in self.each_node():
+            if isinstance(node, ast.Name) and node.id in dir(builtins):
+                self.assertIn(node.id, OWN_NAMES, where)
+
+
+if __name__ == "__main__":
+    unittest.main()
