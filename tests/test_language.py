@@ -30,6 +30,16 @@ WORDS = re.compile(
     r"|dataclass|overload|contextmanager"
 )
 
+METHODS = set(
+    "append clear copy count endswith extend find get index insert isalnum isalpha isdigit islower isspace isupper"
+    " items join keys ljust lower lstrip partition pop remove replace reverse rfind rjust rpartition rsplit rstrip"
+    " setdefault split splitlines startswith strip update upper values zfill bit_length".split()
+)
+KEYWORDS = {
+    "sorted": {"key", "reverse"}, "min": {"key", "default"}, "max": {"key", "default"}, "sum": {"start"},
+    "enumerate": {"start"}, "zip": {"strict"},
+}
+
 
 def texts():
     found = {}
@@ -93,6 +103,48 @@ class Language(unittest.TestCase):
                 self.assertEqual(node.orelse, [], where)
             if isinstance(node, ast.Try):
                 self.assertEqual(node.finalbody, [], where)
+
+    def test_classes_have_methods_alone(self):
+        for name, tree in self.trees.items():
+            for node in ast.walk(tree):
+                if isinstance(node, ast.ClassDef):
+                    self.assertIn(node, tree.body, (name, node.lineno))
+                    self.assertLessEqual(len(node.bases), 1, (name, node.lineno))
+                    self.assertEqual(node.keywords + node.decorator_list, [], (name, node.lineno))
+                    for part in node.body:
+                        self.assertIsInstance(part, (ast.FunctionDef, ast.Pass), (name, part.lineno))
+
+    def test_is_stands_beside_none_and_truths_alone(self):
+        for where, node in self.each_node():
+            if isinstance(node, ast.Compare) and isinstance(node.ops[0], (ast.Is, ast.IsNot)):
+                self.assertIsInstance(node.comparators[0], ast.Constant, where)
+                self.assertIn(node.comparators[0].value, (None, True, False), where)
+
+    def test_methods_and_values_are_listed_or_own(self):
+        own = set()
+        for where, node in self.each_node():
+            if isinstance(node, ast.ClassDef):
+                own |= {part.name for part in node.body if isinstance(part, ast.FunctionDef)}
+            if isinstance(node, ast.Attribute) and isinstance(node.ctx, ast.Store):
+                self.assertFalse(hasattr([], node.attr) or hasattr("", node.attr), where)
+                own.add(node.attr)
+        for where, node in self.each_node():
+            if isinstance(node, ast.Attribute):
+                self.assertIn(node.attr, own | METHODS, where)
+
+    def test_keywords_of_pythons_own(self):
+        for where, node in self.each_node():
+            if isinstance(node, ast.Call) and isinstance(node.func, ast.Name) and node.func.id in OWN_NAMES:
+                given = {keyword.arg for keyword in node.keywords}
+                self.assertLessEqual(given, KEYWORDS.get(node.func.id, set()), where)
+
+    def test_numbers_and_texts(self):
+        for where, node in self.each_node():
+            if isinstance(node, ast.BinOp) and isinstance(node.op, ast.Pow):
+                self.assertIsInstance(node.right, ast.Constant, where)
+                self.assertIn(node.right.value, range(65), where)
+            if isinstance(node, ast.Constant) and isinstance(node.value, str):
+                self.assertNotIn("%", node.value, where)
 
     def test_tops(self):
         plain = (ast.ImportFrom, ast.FunctionDef, ast.ClassDef, ast.Assign)

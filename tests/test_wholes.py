@@ -2,7 +2,7 @@ import math
 import unittest
 
 from kinds import is_whole
-from seer.wholes import divisor
+from seer.wholes import divisor, inverse
 
 
 class Divisor(unittest.TestCase):
@@ -61,6 +61,20 @@ class Divisor(unittest.TestCase):
         for one in range(10 ** 40, 10 ** 40 + 30):
             for other in range(-720720, 720720, 60060):
                 self.tells(one, other, math.gcd(one, other))
+
+
+class Inverse(unittest.TestCase):
+    def test_small_ones(self):
+        for by in range(1, 30):
+            for one in range(-30, 61):
+                if math.gcd(one, by) == 1:
+                    told = inverse(one, by)
+                    self.assertIn(told, range(by), (one, by))
+                    self.assertEqual(one * told % by, 1 % by, (one, by))
+
+    def test_many_figures(self):
+        for one, by in [(7, 10 ** 300), (10 ** 300 - 1, 10 ** 300), (3 ** 9000, 2 ** 14000)]:
+            self.assertEqual(inverse(one, by), pow(one, -1, by))
 
 
 if __name__ == "__main__":
