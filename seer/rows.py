@@ -1,5 +1,7 @@
 """Places and rows: where a body can be, and what is done from one place to another."""
 
+from seer.copies import fresh
+
 
 class Layer:
     # Keeps the rows laid so far and the last place used.
@@ -58,12 +60,3 @@ def last_place(rows):
 
 def when_act(claim, truth):
     return ("when", fresh(claim), truth)
-
-
-def fresh(thing):
-    # Lists can be changed by whoever has them, so none is handed on.
-    if isinstance(thing, list):
-        return [fresh(part) for part in thing]
-    if isinstance(thing, tuple):
-        return tuple([fresh(part) for part in thing])
-    return thing

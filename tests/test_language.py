@@ -132,6 +132,35 @@ class Language(unittest.TestCase):
             if isinstance(node, ast.Attribute):
                 self.assertIn(node.attr, own | METHODS, where)
 
+    def test_no_name_is_a_method_in_one_class_and_a_value_in_another(self):
+        methods = set()
+        values = set()
+        for where, node in self.each_node():
+            if isinstance(node, ast.ClassDef):
+                methods |= {part.name for part in node.body if isinstance(part, ast.FunctionDef)}
+            if isinstance(node, ast.Attribute) and isinstance(node.ctx, ast.Store):
+                values.add(node.attr)
+        self.assertEqual(methods & values, set())
+
+    def test_no_local_is_called_like_an_import_or_a_class_of_its_file(self):
+        for name, tree in self.trees.items():
+            taken = {node.name for node in tree.body if isinstance(node, ast.ClassDef)}
+            for node in tree.body:
+                if isinstance(node, ast.ImportFrom):
+                    taken |= {drawn.name for drawn in node.names}
+            tops = [node.name for node in tree.body if isinstance(node, (ast.FunctionDef, ast.ClassDef))]
+            self.assertEqual(len(tops), len(set(tops)), name)
+            made = [node.arg for node in ast.walk(tree) if isinstance(node, ast.arg)]
+            made += [node.id for node in ast.walk(tree)
+                     if isinstance(node, ast.Name) and isinstance(node.ctx, ast.Store)]
+            self.assertEqual(taken & set(made), set(), name)
+
+    def test_comprehensions_have_one_for_and_at_most_one_if(self):
+        for where, node in self.each_node():
+            if isinstance(node, ast.ListComp):
+                self.assertEqual(len(node.generators), 1, where)
+                self.assertLessEqual(len(node.generators[0].ifs), 1, where)
+
     def test_keywords_of_pythons_own(self):
         for where, node in self.each_node():
             if isinstance(node, ast.Call) and isinstance(node.func, ast.Name) and node.func.id in OWN_NAMES:

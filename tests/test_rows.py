@@ -2,6 +2,7 @@ import copy
 import itertools
 import unittest
 
+from kinds import lists_within, spoil
 from seer.rows import last_place, rows_of
 
 C = ("same", [0, 1])
@@ -190,25 +191,11 @@ class LastPlace(unittest.TestCase):
         self.assertEqual(told, as_it_was)
 
 
-def lists_within(thing):
-    if not isinstance(thing, (list, tuple)):
-        return []
-    found = [thing] if isinstance(thing, list) else []
-    for part in thing:
-        found += lists_within(part)
-    return found
-
-
 class HandedIn(unittest.TestCase):
     def body(self):
         return copy.deepcopy([
             SET, PART, REST, ANY, CALL, SAY, ("if", C, [SET, CALL], [SAY]), ("while", D, [CALL, ("if", E, [], [])]),
         ])
-
-    def spoil(self, thing):
-        for one in lists_within(thing):
-            one.append(99)
-            one[0] = 98
 
     def test_nothing_is_changed_and_asked_again_it_is_the_same(self):
         body = self.body()
@@ -233,14 +220,14 @@ class HandedIn(unittest.TestCase):
         body = self.body()
         told = rows_of(body)
         as_it_was = copy.deepcopy(told)
-        self.spoil(body)
+        spoil(body)
         self.assertEqual(told, as_it_was)
 
     def test_what_is_handed_in_stays_when_what_was_told_is_changed(self):
         body = self.body()
         told = rows_of(body)
         as_it_was = copy.deepcopy(told)
-        self.spoil(told)
+        spoil(told)
         self.assertEqual(body, self.body())
         self.assertEqual(rows_of(body), as_it_was)
 
