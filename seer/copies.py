@@ -8,3 +8,8 @@ def fresh(thing):
     if isinstance(thing, tuple):
         return tuple([fresh(part) for part in thing])
     return thing
+
+
+def laid(row, x, thing):
+    # Boxes are counted from 1, the places of a list from 0.
+    return row[:x - 1] + [thing] + row[x:]

@@ -15,6 +15,10 @@ def greater(one, other):
     return other if not_above(one, other) else one
 
 
+def lower_to(bounds, i, j, bound):
+    bounds[i][j] = lesser(bounds[i][j], bound)
+
+
 def unbound(n):
     return [unbound_row(i, n) for i in range(n + 1)]
 

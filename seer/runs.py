@@ -1,5 +1,6 @@
 """Runs: what an act does to boxes, and the moments that a program goes through."""
 
+from seer.copies import laid
 from seer.errors import NoStart
 from seer.rows import last_place, rows_of
 from seer.sums import holds, value
@@ -32,10 +33,6 @@ def picked(lo, hi, pick):
     if lo is None:
         return hi - abs(pick)
     return lo + pick % (hi - lo + 1)
-
-
-def laid(boxes, x, number):
-    return boxes[:x - 1] + [number] + boxes[x:]
 
 
 class Runner:

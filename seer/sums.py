@@ -13,12 +13,20 @@ def box_sum(i, n):
     return [1 if i > 0 and place == i else 0 for place in range(n + 1)]
 
 
+def box_sums(many, n):
+    return [box_sum(i, n) for i in range(1, many + 1)]
+
+
 def sum_plus(one, other):
     return [left + right for left, right in zip(one, other)]
 
 
 def sum_times(one, k):
     return [number * k for number in one]
+
+
+def sum_less(one, other):
+    return sum_plus(one, sum_times(other, -1))
 
 
 def sum_stretch(one, stretches):

@@ -154,9 +154,13 @@ def bound_grown(old, new, marks):
 def of_stretches(some):
     bounds = unbound(len(some))
     for i, one in enumerate(some, start=1):
-        bounds[i][0] = one[1]
-        bounds[0][i] = end_times(one[0], -1)
+        set_ends(bounds, i, one)
     return sharp((bounds, [(1, 0) for one in some]))
+
+
+def set_ends(bounds, i, one):
+    bounds[i][0] = one[1]
+    bounds[0][i] = end_times(one[0], -1)
 
 
 def stretches_of(told):

@@ -28,6 +28,13 @@ FUNCTIONS = {
         "told_has(told, boxes)", "told_inside(one, other)", "told_joined(one, other)", "sharp(told)",
         "grown(old, new, marks)", "of_stretches(some)", "stretches_of(told)",
     ],
+    "acts": ["greatest(told, one)", "least(told, one)", "recast(told, sums)", "anew(told, x, span, left)"],
+    "whens": ["at_most(told, one, top)", "when(told, claim, truth)"],
+    "calls": [
+        "widened(told, more)", "laid_in(told, at, other)", "argued(told, row, many)",
+        "answered(told, x, row, summary)",
+    ],
+    "outcomes": ["outcome(told, act, summaries)"],
 }
 
 

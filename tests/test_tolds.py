@@ -2,45 +2,13 @@ import copy
 import itertools
 import unittest
 
-from kinds import Dice, check_own, grid, is_stretch, is_told
+from kinds import Dice, check_own, is_stretch, is_told
 from seer.grids import closed
 from seer.rests import rest_met, rest_plus, rest_times, rest_under
 from seer.tolds import grown, of_stretches, sharp, stretches_of, told_has, told_inside, told_joined
+from things import ALL, GREAT, NO_BOXES, RESTS, Case, boxes_of, one_box, over, some_told
 
-GREAT = 10 ** 300 - 1
-ALL = (1, 0)
-NO_BOXES = ([[0]], [])
-RESTS = ((1, 0), (2, 0), (2, 1), (3, 1), (4, 3), (6, 2), (0, 0), (0, 2), (0, -3))
 PAIRS = tuple(itertools.permutations(range(3), 2))
-
-
-def over(n, some, rests=None):
-    """The told thing over n boxes that has some bounds; without rests told, all."""
-    return (grid(n, some), [ALL] * n if rests is None else rests)
-
-
-def one_box(lo, hi, left):
-    return ([[0, None if lo is None else -lo], [hi, 0]], [left])
-
-
-def some_told(dice, n, bounds, rests):
-    if dice.throw(25) == 0:
-        return None
-    pairs = itertools.permutations(range(n + 1), 2)
-    return over(n, {pair: dice.choice(bounds) for pair in pairs}, [dice.choice(rests) for box in range(n)])
-
-
-def boxes_of(told, n, far):
-    return [list(boxes) for boxes in itertools.product(range(-far, far + 1), repeat=n) if told_has(told, list(boxes))]
-
-
-class Case(unittest.TestCase):
-    def is_truth(self, told, wanted, handed):
-        self.assertIs(told, wanted, handed)
-
-    def is_thing(self, told, wanted, handed):
-        self.assertTrue(is_told(told), handed)
-        self.assertEqual(told, wanted, handed)
 
 
 class Has(Case):
