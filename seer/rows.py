@@ -60,3 +60,14 @@ def last_place(rows):
 
 def when_act(claim, truth):
     return ("when", fresh(claim), truth)
+
+
+def rows_by_place(rows):
+    by_place = [[] for place in range(last_place(rows) + 1)]
+    for row in rows:
+        by_place[row[0]].append(row)
+    return by_place
+
+
+def program_rows(program):
+    return [rows_by_place(rows_of(function[2])) for function in program]

@@ -2,7 +2,7 @@
 
 from seer.copies import laid
 from seer.errors import NoStart
-from seer.rows import last_place, rows_of
+from seer.rows import program_rows
 from seer.sums import holds, value
 
 
@@ -41,7 +41,7 @@ class Runner:
 
     def __init__(self, program, start, picks):
         self.program = program
-        self.ways_on = [rows_by_place(rows_of(function[2])) for function in program]
+        self.ways_on = program_rows(program)
         self.picks = picks
         self.used = 0
         self.waiting = []
@@ -101,13 +101,6 @@ def run(program, start, picks, steps):
         runner.go_on()
         moments.append(runner.moment)
     return moments
-
-
-def rows_by_place(rows):
-    by_place = [[] for place in range(last_place(rows) + 1)]
-    for row in rows:
-        by_place[row[0]].append(row)
-    return by_place
 
 
 def first_moment(program, function, given):

@@ -35,6 +35,16 @@ FUNCTIONS = {
         "answered(told, x, row, summary)",
     ],
     "outcomes": ["outcome(told, act, summaries)"],
+    "rings": [
+        "heads(rows)", "stands(rows, entry, summaries, table)", "settle(rows, entry, summaries, way)",
+    ],
+    "looks": ["look(program, starts, way)"],
+    "tellers": ["sayings(program)", "words(program, seen)", "trail(program, seen, function, place)"],
+    "searches": [
+        "tried(one, marks)", "breaks(program, start, picks, steps, function, place)",
+        "breaker(program, starts, marks, picks, steps, most, function, place)",
+        "tell(program, starts, way, picks, steps, most)",
+    ],
 }
 
 

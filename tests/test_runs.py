@@ -1,7 +1,8 @@
 import itertools
 import unittest
 
-from kinds import Dice, check_own, is_whole
+from kinds import check_own, is_whole
+from makers import Maker
 from seer.errors import NoStart
 from seer.programs import well_made
 from seer.runs import done, run
@@ -451,57 +452,6 @@ class NoStarts(unittest.TestCase):
         run(program, [1], [], 3)
         self.refused(program, [])
         self.assertEqual(run(program, [1], [], 3), [(0, 0, [1]), (0, 1, [2])])
-
-
-class Maker:
-    """Makes well-made programs by throws."""
-
-    def __init__(self, seed):
-        self.dice = Dice(seed)
-
-    def program(self):
-        shapes = [(params, params + self.dice.throw(2) + (params == 0)) for params in
-                  [self.dice.throw(3) for f in range(1 + self.dice.throw(5))]]
-        made = []
-        for f, (params, many) in enumerate(shapes):
-            free = 0 if f == len(shapes) - 1 else params
-            boxes = list(range(free + 1, many + 1))
-            made.append((params, many, self.body(many, boxes, [shape[0] for shape in shapes[:f]], 3)))
-        return made
-
-    def body(self, many, boxes, ahead, depth):
-        return [self.statement(many, boxes, ahead, depth) for k in range(self.dice.throw(5))]
-
-    def statement(self, many, boxes, ahead, depth):
-        words = ["say"]
-        words += ["set", "set", "part", "rest", "any"] if boxes else []
-        words += ["call", "call"] if boxes and ahead else []
-        words += ["if", "while", "while"] if depth > 0 else []
-        word = self.dice.choice(words)
-        if word == "say":
-            return (word, self.claim(many))
-        if word == "if":
-            return (word, self.claim(many), self.body(many, boxes, ahead, depth - 1),
-                    self.body(many, boxes, ahead, depth - 1))
-        if word == "while":
-            return (word, self.claim(many), self.body(many, boxes, ahead, depth - 1))
-        x = self.dice.choice(boxes)
-        if word == "any":
-            lo = self.dice.throw(9) - 5
-            return (word, x, self.dice.choice([lo, None]), self.dice.choice([lo + self.dice.throw(4), None]))
-        if word == "call":
-            f = self.dice.throw(len(ahead))
-            return (word, x, f, [self.sum(many) for k in range(ahead[f])])
-        if word == "set":
-            return (word, x, self.sum(many))
-        return (word, x, self.sum(many), 1 + self.dice.throw(4))
-
-    def claim(self, many):
-        word = self.dice.choice(["under", "same", "even"])
-        return (word, self.sum(many)) + ((1 + self.dice.throw(3),) if word == "even" else ())
-
-    def sum(self, many):
-        return [self.dice.throw(7) - 3] + [self.dice.throw(4) - 1 for k in range(many)]
 
 
 class ByManyPrograms(unittest.TestCase):
