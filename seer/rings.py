@@ -61,6 +61,7 @@ class Flow:
         return ends
 
     def cleared(self, table):
+        # From a place 0 that is never no other is reached, and never it stays.
         kept = reached(0, lambda place: self.ends_from(place, table))
         return [told if place in kept else None for place, told in enumerate(table)]
 

@@ -93,3 +93,15 @@ class Ringer(Maker):
         if kind == 2:
             made[1 + self.dice.throw(many)] = -1
         return made
+
+
+class Great(Ringer):
+    """Makes programs with numbers as great as a program may have."""
+
+    def sum(self, many):
+        made = super().sum(many)
+        if self.dice.throw(4) == 0:
+            made[0] = self.dice.choice([-1, 1]) * 10 ** 100
+        if self.dice.throw(4) == 0:
+            made[1 + self.dice.throw(many)] = self.dice.choice([-1, 1]) * 10 ** 9
+        return made

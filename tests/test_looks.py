@@ -98,15 +98,15 @@ class Look(LookCase):
         self.assertEqual(told[2][1][1], over(2, {(1, 0): 9, (0, 1): -7, (2, 0): 9, (0, 2): -7, (1, 2): 0, (2, 1): 0}))
 
     def test_a_summary_is_sharpened_ahead(self):
-        # The head, and so the end, tells 5 where only 4 can be.
-        ring = (0, 1, [("while", ("even", [0, 1], 2), [("set", 1, [2, 1])])])
-        told = self.look([ring, (0, 1, [])], [], (1, [5], 0))
-        self.assertEqual(told[0][0][1], one_box(0, None, (2, 0)))
-        self.assertEqual(told[1], [None])
-        ring = (0, 1, [("while", ("under", [-3, 1]), [("set", 1, [2, 1])]), ("while", ("under", [-3, 1]), [])])
-        for way in ((1, [5], 0), (0, [5], 0), (20, [], 0)):
-            told = self.look([ring, (0, 1, [])], [], way)
-            self.assertEqual(told[1][0], one_box(4, 4, (0, 4)) if way[0] else one_box(3, 5, ALL))
+        # Left are numbers of box 1 that are 2 by 3, of box 2 that are 2 by 4. Behind the last ring box 1 is at most 2
+        # and box 2, at most 7 more, so at most 6; box 3 is less than box 2, but at the last place 8 is still told of it.
+        lost = [("while", ("same", [0, 0, 0, 0]), [])]
+        body = [("if", ("even", [1, 1, 0, 0], 3), [], lost), ("any", 2, None, None), ("set", 2, [2, 0, 4, 0]),
+                ("any", 3, None, None), ("while", ("under", [7, 1, -1, 0]), []), ("while", ("under", [-1, 0, 1, -1]), []),
+                ("while", ("under", [6, 1, 0, -1]), []), ("while", ("under", [4, -1, 0, 0]), [])]
+        told = self.look([(1, 3, body), (0, 1, [])], [], WAY)
+        self.assertEqual(stretches_of(told[0][0][-1]), [(None, 2), (None, 9), (None, 8)])
+        self.assertEqual(told[1], [over(2, {(1, 0): 2, (2, 0): 5, (2, 1): 6}, [(3, 2), ALL])])
 
     def test_a_function_that_never_ends(self):
         main = (0, 1, [("call", 1, 0, []), ("set", 1, [1, 1])])

@@ -223,6 +223,15 @@ class Trail(TrailCase):
         self.assertEqual(summaries, [over(2, {(1, 2): -1, (2, 1): 1})])
         self.tells(program, [], 1, 1, [(1, 0), (1, 1)])
 
+    def test_not_through_a_call_whose_arguments_are_never(self):
+        # Nothing lies in what is told at the first call's place, but it is not never.
+        calls = [("if", below(3), [("call", 1, 0, [[0, 1]])], [("call", 1, 0, [[0, 1]])])]
+        program = [MORE, (1, 1, calls)]
+        wide, summaries, held, grew = look(program, [(0, 5)], WAY)
+        self.assertIn(self.trail(program, (wide, summaries, held, grew), 0, 0)[1][:2], [(1, 1), (1, 3)])
+        held[1][1] = one_box(5, 4, ALL)
+        self.assertEqual(self.trail(program, (wide, summaries, held, grew), 0, 0)[1][:2], (1, 3))
+
     def test_what_is_told_is_the_askers_own(self):
         main = (1, 1, [("set", 1, [1, 1]), ("call", 1, 0, [[0, 1]]), say(ALWAYS)])
         seen = look([MORE, main], [(0, 5)], WAY)

@@ -5,7 +5,7 @@ import unittest
 
 import book_looks as book
 from kinds import Dice
-from makers import Maker, Ringer
+from makers import Great, Maker, Ringer
 from seer.calls import argued
 from seer.looks import look
 from seer.outcomes import outcome
@@ -45,7 +45,7 @@ def some_runs(dice, program, starts, many):
         yield start, picks, run(program, start, picks, dice.choice((300, 300, 40)))
 
 
-def some_looks(seeds, makers=(Ringer, Ringer, Maker)):
+def some_looks(seeds, makers=(Ringer, Great, Ringer, Maker)):
     for seed in seeds:
         maker = makers[seed % len(makers)](seed)
         program = maker.program()
